@@ -1,0 +1,58 @@
+"""The interface: each name stands in its file, with its arguments."""
+
+import ast
+import unittest
+from pathlib import Path
+
+PACKAGE = Path(__file__).parent.parent / "trackloom"
+
+FUNCTIONS = {
+    "pacing": ("pace_at(tempo, tick)", "sample_of(tempo, tick)", "tick_of(tempo, sample)"),
+    "barring": ("place_of(metre, tick)", "tick_at(metre, place)"),
+}
+
+METHODS = {
+    "pacing": ("Tempo.__init__(self, paces)", "Tempo.__eq__(self, other)"),
+    "barring": ("Metre.__init__(self, bars)", "Metre.__eq__(self, other)"),
+}
+
+ERRORS = (
+    "InvalidNumber", "InvalidName", "InvalidPaces", "InvalidBars", "InvalidPlace", "InvalidPart", "InvalidCurve",
+    "InvalidTuning", "InvalidTone", "InvalidPool", "InvalidClip", "InvalidEffect", "InvalidSamples", "InvalidNodes",
+    "InvalidOrder", "InvalidBlocks", "InvalidKept", "InvalidMark", "InvalidBytes", "InvalidText", "InvalidValue",
+    "InvalidDeed", "InvalidStamp", "Round", "Undefined",
+)
+
+
+def heads(module):
+    """What the file defines: its functions, and the methods of its classes, as Name.method, with parameters."""
+    found = []
+    for row in ast.parse((PACKAGE / f"{module}.py").read_text()).body:
+        if isinstance(row, ast.FunctionDef):
+            found.append(f"{row.name}({ast.unparse(row.args)})")
+        if isinstance(row, ast.ClassDef):
+            found.append(f"class {row.name}({', '.join(map(ast.unparse, row.bases))})")
+            found += [f"{row.name}.{one.name}({ast.unparse(one.args)})" for one in row.body
+                      if isinstance(one, ast.FunctionDef)]
+    return found
+
+
+class Interface(unittest.TestCase):
+    def test_functions_and_methods_stand_in_their_files(self):
+        for listing in (FUNCTIONS, METHODS):
+            for module, names in listing.items():
+                found = heads(module)
+                for name in names:
+                    self.assertIn(name, found)
+
+    def test_errors_stand_in_their_file(self):
+        found = heads("errors")
+        self.assertIn("class StudioError(ValueError)", found)
+        for name in ERRORS:
+            argument = {"Round": "names", "Undefined": "what"}.get(name, "value")
+            self.assertIn(f"class {name}(StudioError)", found)
+            self.assertIn(f"{name}.__init__(self, {argument})", found)
+
+
+if __name__ == "__main__":
+    unittest.main()

@@ -1,0 +1,1 @@
+"""Trackloom: a sound studio, exact to the sample."""
