@@ -9,6 +9,19 @@ PACKAGE = Path(__file__).parent.parent / "trackloom"
 FUNCTIONS = {
     "pacing": ("pace_at(tempo, tick)", "sample_of(tempo, tick)", "tick_of(tempo, sample)"),
     "barring": ("place_of(metre, tick)", "tick_at(metre, place)"),
+    "parts": (
+        "is_part(value)", "sounding(part, tick)", "moved(part, many)", "raised(part, many)", "joined(one, other)",
+        "cut(part, first, last)", "repeated(part, length, many)", "snapped(part, grid)",
+    ),
+    "curves": ("value_at(curve, tick)", "bent(curve, tick, value)", "straight(curve)"),
+    "tones": (
+        "step_of(tuning, pitch)", "even_tuning()", "is_tone(value)", "tone_at(tone, pitch, force, held, age)",
+        "played(tone, part, tempo, sample)", "voiced(tone, part, tempo, sample)",
+    ),
+    "clips": (
+        "is_pool(value)", "is_clip(value)", "clip_at(pool, clip, sample)", "split(clip, many)", "merged(one, other)",
+        "slid(clip, many)",
+    ),
 }
 
 METHODS = {

@@ -22,3 +22,13 @@ def is_row(value, least, most):
 def is_ascending(row):
     """Whether each member is more than the one ahead of it."""
     return all([one < other for one, other in zip(row, row[1:])])
+
+
+def are_integers(value, least, most, low, high):
+    """Whether value is a tuple of least to most integers from low to high."""
+    return is_row(value, least, most) and all([is_integer(member, low, high) for member in value])
+
+
+def is_name(value):
+    """Whether any value is a name: a string of 1 to 8 letters from a to z."""
+    return isinstance(value, str) and 1 <= len(value) <= 8 and all(["a" <= sign <= "z" for sign in value])

@@ -1,0 +1,145 @@
+"""Clips: stretches of sounds, read forward or back, that rise and fall."""
+
+from trackloom.checking import are_integers, check_number, is_ascending, is_integer, is_name, is_row
+from trackloom.errors import InvalidClip, InvalidPool, Undefined
+
+LATEST = 20000
+LONGEST = 2000
+FARTHEST = 100000
+DONE = 4000
+
+
+def is_sound(value):
+    """Whether any value is a sound."""
+    return are_integers(value, 0, 600, -32768, 32767)
+
+
+def is_pool(value):
+    """Whether any value is a pool."""
+    return (
+        is_row(value, 0, 12)
+        and all([is_row(pair, 2, 2) and is_name(pair[0]) and is_sound(pair[1]) for pair in value])
+        and is_ascending([pair[0] for pair in value])
+    )
+
+
+def is_clip(value):
+    """Whether any value is a clip (name, at, length, start, rate, gain, rise, fall)."""
+    return (
+        is_row(value, 8, 8)
+        and is_name(value[0])
+        and is_integer(value[1], 0, LATEST)
+        and is_integer(value[2], 1, LONGEST)
+        and is_integer(value[3], -FARTHEST, FARTHEST)
+        and is_rate(value[4])
+        and is_integer(value[5], -1024, 1024)
+        and is_ramp(value[6])
+        and is_ramp(value[7])
+    )
+
+
+def is_rate(value):
+    """Whether any value is a rate, the pair of how far and in how many samples."""
+    return is_row(value, 2, 2) and is_integer(value[0], -8, 8) and is_integer(value[1], 1, 8)
+
+
+def is_ramp(value):
+    """Whether any value is a rise or fall (done, whole)."""
+    return are_integers(value, 2, 2, 0, DONE) and (value[1] != 0 or value[0] == 0)
+
+
+def check_clip(clip):
+    """Raises InvalidClip unless it is a clip."""
+    if not is_clip(clip):
+        raise InvalidClip(clip)
+
+
+def clip_at(pool, clip, sample):
+    """What the clip gives at the sample, of the sounds of the pool."""
+    if not is_pool(pool):
+        raise InvalidPool(pool)
+    check_clip(clip)
+    check_number(sample, 0, 100000)
+    return clip_in(pool, clip, sample)
+
+
+def clip_in(pool, clip, sample):
+    """What clip_at tells, of what is known to be right."""
+    name, at, length, start, rate, gain, rise, fall = clip
+    number = sample - at
+    if not 0 <= number < length:
+        return 0
+    read = member_of(sound_of(pool, name), (start + number * rate[0]) // rate[1])
+    risen = ramped(read * gain // 256, rise, number)
+    return ramped(risen, fall, length - 1 - number)
+
+
+def sound_of(pool, name):
+    """The sound of this name, () if the pool has none."""
+    for other, sound in pool:
+        if other == name:
+            return sound
+    return ()
+
+
+def member_of(sound, number):
+    """The sample with this number, 0 where the sound has none."""
+    if 0 <= number < len(sound):
+        return sound[number]
+    return 0
+
+
+def ramped(value, ramp, steps):
+    """The value by a rise or fall that has gone on by so many steps."""
+    done, whole = ramp
+    if whole == 0:
+        return value
+    return value * min(whole, done + steps) // whole
+
+
+def split(clip, many):
+    """The pair of clips that sound as the clip does, the first with the length many."""
+    check_clip(clip)
+    check_number(many, 1, clip[2] - 1)
+    one, other = halves(clip, many)
+    if other[1] > LATEST or not -FARTHEST <= other[3] <= FARTHEST:
+        raise Undefined("room")
+    return one, other
+
+
+def halves(clip, many):
+    """The clip as it is up to many, and from there on, wherever that begins and starts."""
+    name, at, length, start, rate, gain, rise, fall = clip
+    left = length - many
+    one = (name, at, many, start, rate, gain, rise, gone_on(fall, left))
+    other = (name, at + many, left, start + many * rate[0], rate, gain, gone_on(rise, many), fall)
+    return one, other
+
+
+def gone_on(ramp, many):
+    """The rise or fall with so many more done, but no more than is let."""
+    done, whole = ramp
+    if whole == 0:
+        return ramp
+    return min(done + many, DONE), whole
+
+
+def merged(one, other):
+    """The clip that split gives as these two."""
+    check_clip(one)
+    check_clip(other)
+    length = one[2] + other[2]
+    whole = one[:2] + (length,) + one[3:7] + (other[7],)
+    if length > LONGEST or halves(whole, one[2]) != (one, other):
+        raise Undefined("whole")
+    return whole
+
+
+def slid(clip, many):
+    """The clip that begins by many later."""
+    check_clip(clip)
+    check_number(many, -LATEST, LATEST)
+    at = clip[1] + many
+    if not 0 <= at <= LATEST:
+        raise Undefined("room")
+    return clip[:1] + (at,) + clip[2:]
