@@ -5,6 +5,8 @@ import inspect
 from trackloom.barring import Metre
 from trackloom.errors import StudioError, Undefined
 from trackloom.pacing import Tempo
+from trackloom.projects import Project
+from trackloom.rendering import Renderer
 
 
 def nested(kind, depth):
@@ -17,30 +19,36 @@ def nested(kind, depth):
 
 TEMPO = Tempo(((0, 100, "flat"),))
 METRE = Metre(((0, 4),))
+PROJECT = Project(TEMPO.paces, METRE.bars, (), (("a", None, (), (), ((0, 256),), 0),))
 
 # No value here is a number, or a whole thing of any kind that the document names.
 ODD = (
     True, False, None, "", "1", "flat", "ramp", "saw", [], [0], [[0, 1]], (None,), (True,), ((),),
     (0, 0, 0, 0, 0, 0, 0, 0, 0), [1, 2, 3, 4], TEMPO, METRE, (TEMPO,), nested(tuple, 60), nested(list, 60),
-    tuple(range(29999)), "x" * 4000,
+    tuple(range(29999)), "x" * 4000, PROJECT, Renderer(PROJECT), [PROJECT],
 )
 
 
 def is_plain(value):
-    """Whether it is made of plain tuples, strings and integers that are no bools alone."""
+    """Whether it is made of plain tuples, strings, integers that are no bools, and None alone."""
     if type(value) is tuple:
         return all(is_plain(member) for member in value)
-    return type(value) in (int, str)
+    return type(value) in (int, str, type(None))
+
+
+def shown(values):
+    """A text that is another one, if one of the values has changed."""
+    return repr([sorted(vars(value).items()) if isinstance(value, Project) else value for value in values])
 
 
 def told(case, function, *arguments):
     """What the function returns, by position, again, and by name; all that has to hold of each call."""
-    kept = repr(arguments)
+    kept = shown(arguments)
     result = function(*arguments)
     names = list(inspect.signature(function).parameters)
     case.assertEqual(function(*arguments), result)
     case.assertEqual(function(**dict(zip(names, arguments, strict=True))), result)
-    case.assertEqual(repr(arguments), kept)
+    case.assertEqual(shown(arguments), kept)
     if type(result) is not bool:
         case.assertTrue(is_plain(result), result)
     return result
@@ -48,12 +56,12 @@ def told(case, function, *arguments):
 
 def refused(case, error, argument, function, *arguments):
     """Sees that the call raises just this error, with this argument itself kept."""
-    kept = repr(arguments)
+    kept = shown(arguments)
     with case.assertRaises(StudioError, msg=f"{function.__name__}{kept[:200]}") as caught:
         function(*arguments)
     case.assertIs(type(caught.exception), error, f"{function.__name__}{kept[:200]}")
-    case.assertIs(caught.exception.value, argument)
-    case.assertEqual(repr(arguments), kept)
+    case.assertTrue(caught.exception.value is argument, f"{function.__name__}{kept[:200]}")
+    case.assertEqual(shown(arguments), kept)
 
 
 def undefined(case, what, function, *arguments):

@@ -22,11 +22,24 @@ FUNCTIONS = {
         "is_pool(value)", "is_clip(value)", "clip_at(pool, clip, sample)", "split(clip, many)", "merged(one, other)",
         "slid(clip, many)",
     ),
+    "effects": (
+        "is_effect(value)", "heard(effect, samples)", "delay_of(effect)", "fresh(effect)",
+        "pushed(effect, state, samples)", "span_of(effect)",
+    ),
+    "projects": ("is_node(value)", "node_of(project, name)", "arrival(project, name)"),
+    "hearing": ("sample_at(project, name, number)", "rendered(project, name, first, last)"),
+    "rendering": (
+        "is_order(project, value)", "some_order(project)", "rendered_by(project, order, blocks, kept, name)",
+    ),
 }
 
 METHODS = {
     "pacing": ("Tempo.__init__(self, paces)", "Tempo.__eq__(self, other)"),
     "barring": ("Metre.__init__(self, bars)", "Metre.__eq__(self, other)"),
+    "projects": ("Project.__init__(self, paces, bars, pool, nodes)", "Project.__eq__(self, other)"),
+    "rendering": (
+        "Renderer.__init__(self, project)", "Renderer.next(self, many)", "Renderer.mark(self)", "Renderer.back(self, mark)",
+    ),
 }
 
 ERRORS = (

@@ -99,10 +99,15 @@ class Language(unittest.TestCase):
 
     def test_calls_are_of_what_is_let(self):
         own = own_names()
+        from_tables = {
+            node.targets[0].id for _, node in nodes_of(ast.Assign)
+            if isinstance(node.value, ast.Subscript) and isinstance(node.value.value, ast.Name)
+            and node.value.value.id.isupper()
+        }
         for where, node in nodes_of(ast.Call):
             self.assertEqual(node.keywords, [], where)
             if isinstance(node.func, ast.Name):
-                self.assertIn(node.func.id, BUILTINS | own, where)
+                self.assertIn(node.func.id, BUILTINS | own | from_tables, where)
             else:
                 self.assertIn(node.func.attr, METHODS | own, where)
 

@@ -8,6 +8,11 @@ def is_integer(value, low, high):
     return isinstance(value, int) and not isinstance(value, bool) and low <= value <= high
 
 
+def is_number(value):
+    """Whether any value is a number, however great."""
+    return isinstance(value, int) and not isinstance(value, bool) and value >= 0
+
+
 def check_number(value, low, high):
     """Raises InvalidNumber unless value is an integer from low to high."""
     if not is_integer(value, low, high):

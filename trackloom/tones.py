@@ -134,16 +134,13 @@ def sample_in(tone, pitch, force, held, age):
 def played(tone, part, tempo, sample):
     """The sum of what all notes of the part that sound make at the sample."""
     check_played(tone, part, sample)
-    total = 0
-    for note, held, age in voices_at(tone, part, tempo, sample):
-        total = total + sample_in(tone, note[2], note[3], held, age)
-    return total
+    return sum_at(tone, spans_of(part, tempo), sample)
 
 
 def voiced(tone, part, tempo, sample):
     """The notes of the part that sound at the sample."""
     check_played(tone, part, sample)
-    return tuple([note for note, _, _ in voices_at(tone, part, tempo, sample)])
+    return tuple([note for note, _, _ in voices_at(tone, spans_of(part, tempo), sample)])
 
 
 def check_played(tone, part, sample):
@@ -153,19 +150,33 @@ def check_played(tone, part, sample):
     check_number(sample, 0, 100000)
 
 
-def voices_at(tone, part, tempo, sample):
-    """The triples (note, held, age) of all notes that sound at the sample."""
-    alive = alive_at(tone, part, tempo, sample)
-    return alive[-tone[3]:]
-
-
-def alive_at(tone, part, tempo, sample):
-    """The triples (note, held, age) of all notes that are alive at the sample."""
-    fade = tone[2][3]
-    alive = []
+def spans_of(part, tempo):
+    """The triples (note, begin, held) of all notes of the part: where each begins, and how long it is held."""
+    spans = []
     for note in part:
         begin = sample_of(tempo, note[0])
-        held = sample_of(tempo, note[0] + note[1]) - begin
-        if begin <= sample < begin + held + fade:
-            alive.append((note, held, sample - begin))
-    return alive
+        spans.append((note, begin, sample_of(tempo, note[0] + note[1]) - begin))
+    return spans
+
+
+def sum_at(tone, spans, sample):
+    """What played tells, of the spans of the part."""
+    total = 0
+    for note, held, age in voices_at(tone, spans, sample):
+        total = total + sample_in(tone, note[2], note[3], held, age)
+    return total
+
+
+def voices_at(tone, spans, sample):
+    """The triples (note, held, age) of all notes that sound at the sample."""
+    return alive_at(tone, spans, sample)[-tone[3]:]
+
+
+def alive_at(tone, spans, sample):
+    """The triples (note, held, age) of all notes that are alive at the sample."""
+    fade = tone[2][3]
+    return [
+        (note, held, sample - begin)
+        for note, begin, held in spans
+        if begin <= sample < begin + held + fade
+    ]

@@ -1,0 +1,25 @@
+"""What the nodes of a project sound like: the meaning of each sample."""
+
+from trackloom.checking import check_number
+from trackloom.playing import played_out
+from trackloom.projects import node_of, order_of
+
+
+def sample_at(project, name, number):
+    """The sample with this number of the node of this name."""
+    node_of(project, name)
+    check_number(number, 0, 999)
+    return beginning_of(project, name, number + 1)[number]
+
+
+def rendered(project, name, first, last):
+    """The samples from first up to, and without, last of the node of this name."""
+    node_of(project, name)
+    check_number(first, 0, 999)
+    check_number(last, first, min(first + 600, 1000))
+    return beginning_of(project, name, last)[first:]
+
+
+def beginning_of(project, name, many):
+    """The first samples, so many, of the node of this name."""
+    return played_out(project, order_of(project.nodes), {}, name, many)

@@ -1,0 +1,174 @@
+"""Projects: a map of time, a pool of sounds, and the nodes that are heard."""
+
+from trackloom.barring import Metre
+from trackloom.checking import is_ascending, is_integer, is_name, is_row
+from trackloom.clips import is_clip, is_pool
+from trackloom.curves import is_curve
+from trackloom.effects import delay_of, is_effect
+from trackloom.errors import InvalidName, InvalidNodes, InvalidPool, Round
+from trackloom.pacing import Tempo
+from trackloom.parts import is_part
+from trackloom.tones import is_tone
+
+
+def is_node(value):
+    """Whether any value is a node (name, source, effects, inputs, level, silent)."""
+    return (
+        is_row(value, 6, 6)
+        and is_name(value[0])
+        and is_source(value[1])
+        and are_effects(value[2])
+        and are_inputs(value[3])
+        and is_curve(value[4])
+        and is_integer(value[5], 0, 1)
+    )
+
+
+def is_source(value):
+    """Whether any value is a source."""
+    if is_row(value, 3, 3):
+        return value[0] == "tone" and is_tone(value[1]) and is_part(value[2])
+    if is_row(value, 2, 2):
+        return value[0] == "clips" and are_clips(value[1])
+    return value is None
+
+
+def are_clips(value):
+    """Whether any value is the clips of a source."""
+    return is_row(value, 0, 8) and all([is_clip(clip) for clip in value]) and is_ascending(value)
+
+
+def are_effects(value):
+    """Whether any value is the effects of a node."""
+    return is_row(value, 0, 6) and all([is_effect(effect) for effect in value])
+
+
+def are_inputs(value):
+    """Whether any value is the inputs of a node."""
+    return is_row(value, 0, 6) and all([is_input(member) for member in value]) and is_ascending(value)
+
+
+def is_input(value):
+    """Whether any value is an input (name, gain, word)."""
+    return (
+        is_row(value, 3, 3)
+        and is_name(value[0])
+        and is_integer(value[1], -1024, 1024)
+        and value[2] in ("now", "late")
+    )
+
+
+def are_nodes(value):
+    """Whether any value is nodes."""
+    if not is_row(value, 1, 12) or not all([is_node(node) for node in value]):
+        return False
+    names = names_of(value)
+    return is_ascending(names) and all([name in names for node in value for name in heard_by(node)])
+
+
+def names_of(nodes):
+    """The names of the nodes."""
+    return [node[0] for node in nodes]
+
+
+def heard_by(node):
+    """The names of all that the node hears, now or late."""
+    return [name for name, _, _ in node[3]]
+
+
+def heard_now(node):
+    """The names of all that the node hears now."""
+    return [name for name, _, word in node[3] if word == "now"]
+
+
+class Project:
+    """All that is heard, and when; equal to others that have the same four parts."""
+
+    def __init__(self, paces, bars, pool, nodes):
+        self.tempo = Tempo(paces)
+        self.metre = Metre(bars)
+        if not is_pool(pool):
+            raise InvalidPool(pool)
+        if not are_nodes(nodes):
+            raise InvalidNodes(nodes)
+        names = ringed(nodes)
+        if names:
+            raise Round(names)
+        self.paces = paces
+        self.bars = bars
+        self.pool = pool
+        self.nodes = nodes
+
+    def __eq__(self, other):
+        return (
+            isinstance(other, Project)
+            and self.paces == other.paces
+            and self.bars == other.bars
+            and self.pool == other.pool
+            and self.nodes == other.nodes
+        )
+
+
+def ringed(nodes):
+    """The names of all nodes that hear themselves now, by whatever way."""
+    links = {node[0]: heard_now(node) for node in nodes}
+    return tuple([name for name in names_of(nodes) if name in followed(links, links[name])])
+
+
+def followed(links, names):
+    """The names, and all those to which links, a dict of names and lists of names, lead from them."""
+    found = []
+    left = list(names)
+    while left:
+        name = left.pop()
+        if name not in found:
+            found.append(name)
+            left.extend(links[name])
+    return found
+
+
+def order_of(nodes):
+    """The names of the nodes, each behind all that its node hears now."""
+    order = []
+    while len(order) < len(nodes):
+        for node in nodes:
+            if node[0] not in order and all([name in order for name in heard_now(node)]):
+                order.append(node[0])
+    return tuple(order)
+
+
+def node_of(project, name):
+    """The node of this name."""
+    for node in project.nodes:
+        if node[0] == name:
+            return node
+    raise InvalidName(name)
+
+
+def arrival(project, name):
+    """How many samples late the node of this name is heard."""
+    node_of(project, name)
+    return arrivals_of(project)[name]
+
+
+def arrivals_of(project):
+    """The arrivals of all nodes, by their names."""
+    arrivals = {}
+    for name in order_of(project.nodes):
+        node = node_of(project, name)
+        arrivals[name] = ahead_of(node, arrivals) + sum([delay_of(effect) for effect in node[2]])
+    return arrivals
+
+
+def ahead_of(node, arrivals):
+    """How late the latest comes of all that the node hears now."""
+    return max([0] + [arrivals[name] for name in heard_now(node)])
+
+
+def lags_of(node, arrivals):
+    """For each input of the node the triple (name, gain, lag): so many samples later it is heard."""
+    ahead = ahead_of(node, arrivals)
+    return [
+        (name, gain, 1 if word == "late" else ahead - arrivals[name])
+        for name, gain, word in node[3]
+    ]
