@@ -31,6 +31,9 @@ FUNCTIONS = {
     "rendering": (
         "is_order(project, value)", "some_order(project)", "rendered_by(project, order, blocks, kept, name)",
     ),
+    "renewing": ("changed(before, after)", "reached(project, names)", "renewed(before, after, kept, many)"),
+    "making": ("things(project)", "without(project, some)", "makers(project, name, number)"),
+    "metering": ("meter(samples)", "together(one, other)", "loudest(samples, many)"),
 }
 
 METHODS = {
