@@ -97,3 +97,26 @@ def warped(value):
         for at, member in enumerate(value):
             for other in warped(member):
                 yield value[:at] + (other,) + value[at + 1:]
+
+
+NO_SOUNDS = tuple(value for value in ODD if value != (0,) * 9) + (
+    0, [], [1], (1, True), (1, None), (1, "1"), (1, (1,)), (32768,), (-32769,), (0,) * 601, (PROJECT,), "12",
+) + tuple(warped((1, -2)))
+
+
+def some_sound(source, many):
+    """A sound of so many samples: still, wandering, at both bounds, or free."""
+    kind = source.randrange(5)
+    if kind == 0:
+        return (source.choice((0, 5, -32768, 32767)),) * many
+    if kind == 1:
+        return tuple(source.choice((-32768, 32767)) for _ in range(many))
+    if kind == 2:
+        return tuple(source.randrange(-32768, 32768) for _ in range(many))
+    step = source.choice((1, 40, 3000))
+    value = source.randrange(-9000, 9000)
+    samples = []
+    for _ in range(many):
+        value = max(-32768, min(32767, value + source.randint(-step, step + source.randrange(3))))
+        samples.append(value)
+    return tuple(samples)

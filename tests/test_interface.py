@@ -34,6 +34,16 @@ FUNCTIONS = {
     "renewing": ("changed(before, after)", "reached(project, names)", "renewed(before, after, kept, many)"),
     "making": ("things(project)", "without(project, some)", "makers(project, name, number)"),
     "metering": ("meter(samples)", "together(one, other)", "loudest(samples, many)"),
+    "shaping": (
+        "turned(sound)", "drawn(sound, up, down)", "mixed(one, other, at)", "blended(one, other, many)",
+        "scaled(sound, top)", "quiet(sound, top)",
+    ),
+    "packing": (
+        "check_of(row)", "packed(sound, slack)", "unpacked(stream)", "slack_of(stream)", "frame_at(stream, number)",
+        "damaged(stream)", "patched(stream)", "spliced(one, other)",
+    ),
+    "writing": ("written(value)", "read(text)"),
+    "spelling": ("spelled(part, metre)", "part_of(text, metre)"),
 }
 
 METHODS = {

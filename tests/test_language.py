@@ -101,8 +101,8 @@ class Language(unittest.TestCase):
         own = own_names()
         from_tables = {
             node.targets[0].id for _, node in nodes_of(ast.Assign)
-            if isinstance(node.value, ast.Subscript) and isinstance(node.value.value, ast.Name)
-            and node.value.value.id.isupper()
+            if isinstance(node.targets[0], ast.Name) and isinstance(node.value, ast.Subscript)
+            and isinstance(node.value.value, ast.Name) and node.value.value.id.isupper()
         }
         for where, node in nodes_of(ast.Call):
             self.assertEqual(node.keywords, [], where)
@@ -118,6 +118,8 @@ class Language(unittest.TestCase):
             for node in ast.walk(tree):
                 if isinstance(node, (ast.For, ast.comprehension)):
                     fine.add(id(node.iter))
+                    if isinstance(node.iter, ast.Call) and ast.unparse(node.iter.func) == "enumerate":
+                        fine.add(id(node.iter.args[0]))
             for node in ast.walk(tree):
                 if isinstance(node, ast.Call) and isinstance(node.func, ast.Name):
                     if node.func.id in ("zip", "enumerate", "reversed", "range"):

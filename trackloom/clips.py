@@ -1,17 +1,33 @@
 """Clips: stretches of sounds, read forward or back, that rise and fall."""
 
 from trackloom.checking import are_integers, check_number, is_ascending, is_integer, is_name, is_row
-from trackloom.errors import InvalidClip, InvalidPool, Undefined
+from trackloom.errors import InvalidClip, InvalidPool, InvalidSamples, Undefined
 
 LATEST = 20000
 LONGEST = 2000
 FARTHEST = 100000
 DONE = 4000
+LOWEST = -32768
+HIGHEST = 32767
+LARGEST = 600
 
 
 def is_sound(value):
     """Whether any value is a sound."""
-    return are_integers(value, 0, 600, -32768, 32767)
+    return are_integers(value, 0, LARGEST, LOWEST, HIGHEST)
+
+
+def check_sound(sound):
+    """Raises InvalidSamples unless it is a sound."""
+    if not is_sound(sound):
+        raise InvalidSamples(sound)
+
+
+def as_sample(number):
+    """The number itself, or the nearer of the bounds of samples that it lies beyond."""
+    if number < LOWEST:
+        return LOWEST
+    return HIGHEST if number > HIGHEST else number
 
 
 def is_pool(value):
