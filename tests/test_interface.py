@@ -44,6 +44,9 @@ FUNCTIONS = {
     ),
     "writing": ("written(value)", "read(text)"),
     "spelling": ("spelled(part, metre)", "part_of(text, metre)"),
+    "deeds": ("is_deed(value)", "done(project, deed)"),
+    "copies": ("project_of(project, steps)", "void_of(project, steps)", "off_of(project, steps)"),
+    "logs": ("logged(steps)", "recovered(row)", "tidied(steps)"),
 }
 
 METHODS = {
@@ -52,6 +55,17 @@ METHODS = {
     "projects": ("Project.__init__(self, paces, bars, pool, nodes)", "Project.__eq__(self, other)"),
     "rendering": (
         "Renderer.__init__(self, project)", "Renderer.next(self, many)", "Renderer.mark(self)", "Renderer.back(self, mark)",
+    ),
+    "copies": (
+        "Copy.__init__(self, person, life, project)", "Copy.do(self, deed)", "Copy.undo(self, stamp)", "Copy.redo(self, stamp)",
+        "Copy.hear(self, steps)", "Copy.back(self)",
+    ),
+    "studio": (
+        "Studio.__init__(self, project, people)", "Studio.copy_steps(self, person)", "Studio.copy_project(self, person)",
+        "Studio.copy_log(self, person)", "Studio.do(self, person, deed)", "Studio.undo(self, person, stamp)",
+        "Studio.redo(self, person, stamp)", "Studio.send(self, person, other)", "Studio.crash(self, person, many)",
+        "Studio.tidy(self, person)", "Studio.hear(self, person, name, first, last)", "Studio.watch(self, person, name, number)",
+        "Studio.watched(self, person)", "Studio.news(self, person)",
     ),
 }
 

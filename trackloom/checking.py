@@ -31,7 +31,10 @@ def is_ascending(row):
 
 def are_integers(value, least, most, low, high):
     """Whether value is a tuple of least to most integers from low to high."""
-    return is_row(value, least, most) and all([is_integer(member, low, high) for member in value])
+    return is_row(value, least, most) and all([
+        isinstance(member, int) and low <= member <= high and not isinstance(member, bool)
+        for member in value
+    ])
 
 
 def is_name(value):

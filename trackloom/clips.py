@@ -10,6 +10,7 @@ DONE = 4000
 LOWEST = -32768
 HIGHEST = 32767
 LARGEST = 600
+MOST_SOUNDS = 12
 
 
 def is_sound(value):
@@ -33,7 +34,7 @@ def as_sample(number):
 def is_pool(value):
     """Whether any value is a pool."""
     return (
-        is_row(value, 0, 12)
+        is_row(value, 0, MOST_SOUNDS)
         and all([is_row(pair, 2, 2) and is_name(pair[0]) and is_sound(pair[1]) for pair in value])
         and is_ascending([pair[0] for pair in value])
     )

@@ -1,8 +1,8 @@
 """What the nodes of a project sound like: the meaning of each sample."""
 
 from trackloom.checking import check_number
-from trackloom.playing import played_out
-from trackloom.projects import node_of, order_of
+from trackloom.playing import played_out, played_rows
+from trackloom.projects import names_of, node_of, order_of
 
 
 def sample_at(project, name, number):
@@ -23,3 +23,12 @@ def rendered(project, name, first, last):
 def beginning_of(project, name, many):
     """The first samples, so many, of the node of this name."""
     return played_out(project, order_of(project.nodes), {}, name, many)
+
+
+def values_at(project, pairs):
+    """For each of the pairs (name, number) the triple with its sample, None where no node has the name."""
+    names = names_of(project.nodes)
+    heard = [pair for pair in pairs if pair[0] in names]
+    many = max([0] + [number + 1 for _, number in heard])
+    rows = played_rows(project, order_of(project.nodes), {}, [name for name, _ in heard], many)
+    return tuple([(name, number, rows[name][number] if name in names else None) for name, number in pairs])

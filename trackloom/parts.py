@@ -4,13 +4,13 @@ from trackloom.checking import check_number, is_ascending, is_integer, is_row
 from trackloom.errors import InvalidPart, Undefined
 
 ROOM = 2000
-MANY = 100
+MOST_NOTES = 100
 PITCHES = 127
 
 
 def is_part(value):
     """Whether any value is a part."""
-    return is_row(value, 0, MANY) and all([is_note(note) for note in value]) and is_ascending(value)
+    return is_row(value, 0, MOST_NOTES) and all([is_note(note) for note in value]) and is_ascending(value)
 
 
 def is_note(value):
@@ -79,7 +79,7 @@ def joined(one, other):
 
 def with_few(notes):
     """The notes, if they are not more than a part may have."""
-    if len(notes) > MANY:
+    if len(notes) > MOST_NOTES:
         raise Undefined("many")
     return notes
 

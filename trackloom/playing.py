@@ -97,8 +97,13 @@ class Source:
 
 def played_out(project, order, kept, name, many):
     """The first samples, so many, of the node of this name, with the rows in kept, a dict, as they are."""
+    return tuple(played_rows(project, order, kept, [name], many)[name])
+
+
+def played_rows(project, order, kept, names, many):
+    """The rows, by their names, of the nodes with these names, and of others, as played_out tells them."""
     links = {node[0]: [] if node[0] in kept else heard_by(node) for node in project.nodes}
-    needed = followed(links, [name])
+    needed = followed(links, names)
     player = Player(project, [other for other in order if other in needed], kept)
     player.play(many)
-    return tuple(player.outs[name])
+    return player.outs

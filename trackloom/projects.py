@@ -10,6 +10,16 @@ from trackloom.pacing import Tempo
 from trackloom.parts import is_part
 from trackloom.tones import is_tone
 
+MOST_CLIPS = 8
+MOST_EFFECTS = 6
+MOST_INPUTS = 6
+MOST_NODES = 12
+
+# The parts of the least project that there is.
+PACES = ((0, 1, "flat"),)
+BARS = ((0, 1),)
+NODES = (("a", None, (), (), ((0, 0),), 0),)
+
 
 def is_node(value):
     """Whether any value is a node (name, source, effects, inputs, level, silent)."""
@@ -35,17 +45,17 @@ def is_source(value):
 
 def are_clips(value):
     """Whether any value is the clips of a source."""
-    return is_row(value, 0, 8) and all([is_clip(clip) for clip in value]) and is_ascending(value)
+    return is_row(value, 0, MOST_CLIPS) and all([is_clip(clip) for clip in value]) and is_ascending(value)
 
 
 def are_effects(value):
     """Whether any value is the effects of a node."""
-    return is_row(value, 0, 6) and all([is_effect(effect) for effect in value])
+    return is_row(value, 0, MOST_EFFECTS) and all([is_effect(effect) for effect in value])
 
 
 def are_inputs(value):
     """Whether any value is the inputs of a node."""
-    return is_row(value, 0, 6) and all([is_input(member) for member in value]) and is_ascending(value)
+    return is_row(value, 0, MOST_INPUTS) and all([is_input(member) for member in value]) and is_ascending(value)
 
 
 def is_input(value):
@@ -60,10 +70,18 @@ def is_input(value):
 
 def are_nodes(value):
     """Whether any value is nodes."""
-    if not is_row(value, 1, 12) or not all([is_node(node) for node in value]):
-        return False
-    names = names_of(value)
-    return is_ascending(names) and all([name in names for node in value for name in heard_by(node)])
+    return (
+        is_row(value, 1, MOST_NODES)
+        and all([is_node(node) for node in value])
+        and is_ascending(names_of(value))
+        and are_whole(value)
+    )
+
+
+def are_whole(nodes):
+    """Whether each input of each of the nodes has the name of one of them."""
+    names = names_of(nodes)
+    return all([name in names for node in nodes for name in heard_by(node)])
 
 
 def names_of(nodes):
@@ -107,6 +125,22 @@ class Project:
             and self.pool == other.pool
             and self.nodes == other.nodes
         )
+
+
+def assembled(tempo, metre, pool, nodes):
+    """The project of these parts, all known to be right together.
+
+    None of them is checked, and no time reckoned, anew, as it would be if a
+    Project were made of all of them.
+    """
+    made = Project(PACES, BARS, (), NODES)
+    made.tempo = tempo
+    made.metre = metre
+    made.paces = tempo.paces
+    made.bars = metre.bars
+    made.pool = pool
+    made.nodes = nodes
+    return made
 
 
 def ringed(nodes):
