@@ -1,6 +1,7 @@
 """What several tests need: values of all kinds, and what every call has to keep to."""
 
 import inspect
+import sys
 
 from trackloom.barring import Metre
 from trackloom.errors import StudioError, Undefined
@@ -120,3 +121,19 @@ def some_sound(source, many):
         value = max(-32768, min(32767, value + source.randint(-step, step + source.randrange(3))))
         samples.append(value)
     return tuple(samples)
+
+
+def calls_of(function, *arguments):
+    """How many functions, one's own and others', are called in this call."""
+    many = 0
+
+    def count(frame, event, argument):
+        nonlocal many
+        many += event in ("call", "c_call")
+
+    sys.setprofile(count)
+    try:
+        function(*arguments)
+    finally:
+        sys.setprofile(None)
+    return many

@@ -3,7 +3,7 @@
 import random
 import unittest
 
-from tests.helpers import ODD, PROJECT, is_plain, nested, refused, shown, told, undefined
+from tests.helpers import ODD, PROJECT, calls_of, is_plain, nested, refused, shown, told, undefined
 from tests.histories import TURNS, done_by_the_words, led, same, some_deed, some_steps
 from tests.meaning import some_project
 from tests.steps import A1, A2, A3, A4, B1, B2, FINE, NO_STAMPS, NOTES, ONE, no_steps
@@ -192,6 +192,13 @@ class Copies(unittest.TestCase):
         self.assertEqual(copy.undo((1, "ann", 1))[0], (6, "ann", 1))
         self.agrees(copy)
 
+    def test_what_others_undid_is_not_done_again(self):
+        copy = Copy("ann", 0, ONE)
+        copy.hear(((B1, NOTES[1]), (B2, ("undo", B1))))
+        self.assertEqual(copy.off, (B1,))
+        self.refuses(InvalidStamp, B1, copy, "redo", B1)
+        self.refuses(InvalidStamp, B1, copy, "undo", B1)
+
     def test_a_void_step_can_be_undone(self):
         copy = Copy("ann", 0, ONE)
         copy.do(("unnode", "nobody"))
@@ -341,6 +348,12 @@ class Copies(unittest.TestCase):
             if stamp[1] == "ann":
                 copy.undo(stamp)
         self.agrees(copy)
+
+    def test_a_step_behind_all_others_does_none_of_them_again(self):
+        copy = Copy("ann", 0, ONE)
+        few = calls_of(copy.do, NOTES[0])
+        copy.hear(tuple(((clock, "bob", 0), ("node", ("x", None, (("wait", clock),) * 6, (), ((0, clock),), 0))) for clock in range(2, 120)))
+        self.assertLess(calls_of(copy.do, NOTES[1]), few + 500)
 
     def test_deeply_nested_values_are_refused(self):
         copy = Copy("ann", 0, ONE)

@@ -15,7 +15,7 @@ BUILTINS = {
 METHODS = {
     "append", "clear", "copy", "count", "endswith", "extend", "find", "get", "index", "insert", "isalnum", "isalpha",
     "isdigit", "islower", "isspace", "isupper", "items", "join", "keys", "ljust", "lower", "lstrip", "partition",
-    "pop", "remove", "replace", "reverse", "rfind", "rjust", "rpartition", "rsplit", "rstrip", "setdefault", "split",
+    "pop", "isascii", "removeprefix", "remove", "replace", "reverse", "rfind", "rjust", "rpartition", "rsplit", "rstrip", "setdefault", "split",
     "splitlines", "startswith", "strip", "update", "upper", "values", "zfill", "bit_length",
 }
 BARRED = (
@@ -139,6 +139,24 @@ class Language(unittest.TestCase):
                     bound.add(node.id)
             self.assertEqual(bound & (top | barred), set(), file.name)
             self.assertEqual(top & barred, set(), file.name)
+
+    def test_attributes_and_methods_have_names_of_their_own(self):
+        taken = {name for kind in (str, int, list, dict, set, bytes, tuple) for name in dir(kind)}
+        for where, node in nodes_of(ast.Attribute):
+            if isinstance(node.ctx, ast.Store):
+                self.assertNotIn(node.attr, (taken | {"args"}) - {"copy", "count", "index", "title", "find", "get", "join"}, where)
+        for where, node in nodes_of(ast.ClassDef):
+            methods = {row.name for row in node.body if isinstance(row, ast.FunctionDef)}
+            stored = {row.attr for row in ast.walk(node) if isinstance(row, ast.Attribute) and isinstance(row.ctx, ast.Store)}
+            self.assertEqual(methods & (taken - {"__init__", "__eq__"}), set(), where)
+            self.assertEqual(methods & stored, set(), where)
+
+    def test_names_are_bound_once(self):
+        for where, node in nodes_of((ast.Module, ast.ClassDef)):
+            names = [row.name for row in node.body if isinstance(row, (ast.FunctionDef, ast.ClassDef))]
+            names += [row.targets[0].id for row in node.body if isinstance(row, ast.Assign)]
+            names += [name.name for row in node.body if isinstance(row, ast.ImportFrom) for name in row.names]
+            self.assertEqual(len(names), len(set(names)), where)
 
     def test_each_function_tells_what_it_is_for(self):
         for where, node in nodes_of((ast.FunctionDef, ast.ClassDef, ast.Module)):

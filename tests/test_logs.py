@@ -7,6 +7,7 @@ from tests.helpers import ODD, PROJECT, refused, told, warped
 from tests.histories import log_of, record_of, record_of_text, same, some_steps, text_of
 from tests.meaning import LEVEL, some_project
 from tests.steps import A1, A2, A3, B1, FINE, NOTES, no_steps
+from tests.streams import check_bit_by_bit, in_bytes
 from trackloom.copies import project_of
 from trackloom.errors import InvalidBytes, InvalidStamp
 from trackloom.logs import logged, recovered, tidied
@@ -137,6 +138,13 @@ class Recovered(unittest.TestCase):
         for row in (one[:-2] + (one[-2] ^ 1, one[-1]), one[:-1], one[:-1] + (one[-1] ^ 255,), (one[0] ^ 1,) + one[1:], one[:2] + (one[2] + 1,) + one[3:] + (0,),
                     (255, 255, 255), (0, 0, 1), (0, 0), (0,), (0, 0, 0, 255, 255), one[:3], (0,) * 9):
             self.assertEqual(told(self, recovered, row), ((), 0))
+
+    def test_a_whole_step_in_a_record_that_is_not_whole(self):
+        """The check of what is there is 0, as that of the nothing that stands for the check itself would be."""
+        text = '((1377, "ann", 0), ("unnode", "lead"))'
+        row = in_bytes(len(text) + 55, 3) + tuple(text.encode("ascii"))
+        self.assertEqual(check_bit_by_bit(row), 0)
+        self.assertEqual(recovered(row), ((), 0))
 
     def test_writings_that_are_no_steps(self):
         fine = record_of(self.STEPS[0])

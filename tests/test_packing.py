@@ -114,6 +114,12 @@ class Packed(unittest.TestCase):
         bits, _ = bits_of((-20,), 0, 0, 0)
         self.assertEqual(bits, "1" * 39 + "0")
 
+    def test_widths_by_which_a_code_is_just_no_escape_any_more(self):
+        for many in range(40):
+            for value in (20, -20, 39, 40, -40):
+                sound = (0,) * many + (value,)
+                self.assertEqual(packed(sound, 0), stream_by(sound, 0, shortest(sound, 0))[0])
+
     def test_samples_beyond_the_bounds_are_held(self):
         sound = (32700, 32767, 32767, -32768, -32700, -32768)
         for slack in (100, 255):

@@ -88,6 +88,8 @@ class Drawn(unittest.TestCase):
         undefined(self, "many", drawn, LONG[:201], 3, 1)
         self.assertEqual(len(drawn(LONG[:525], 8, 7)), 600)
         undefined(self, "many", drawn, LONG[:526], 8, 7)
+        # The last of 601 samples is the last one of the sound itself.
+        undefined(self, "many", drawn, LONG[:343], 7, 4)
 
     def test_up_and_down_again(self):
         source = random.Random(303)

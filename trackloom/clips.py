@@ -82,13 +82,21 @@ def clip_at(pool, clip, sample):
 
 def clip_in(pool, clip, sample):
     """What clip_at tells, of what is known to be right."""
+    row = clip_between(pool, clip, sample, sample + 1)[1]
+    return row[0] if row else 0
+
+
+def clip_between(pool, clip, first, last):
+    """What the clip gives from the sample first up to, and without, last: where that begins, and the row of it."""
     name, at, length, start, rate, gain, rise, fall = clip
-    number = sample - at
-    if not 0 <= number < length:
-        return 0
-    read = member_of(sound_of(pool, name), (start + number * rate[0]) // rate[1])
-    risen = ramped(read * gain // 256, rise, number)
-    return ramped(risen, fall, length - 1 - number)
+    begin = max(first - at, 0)
+    end = min(last - at, length)
+    sound = sound_of(pool, name)
+    many = len(sound)
+    places = [(start + number * rate[0]) // rate[1] for number in range(begin, end)]
+    row = [sound[place] * gain // 256 if 0 <= place < many else 0 for place in places]
+    risen = ramped(row, rise, begin)
+    return at + begin, ramped(risen[::-1], fall, length - end)[::-1]
 
 
 def sound_of(pool, name):
@@ -99,19 +107,12 @@ def sound_of(pool, name):
     return ()
 
 
-def member_of(sound, number):
-    """The sample with this number, 0 where the sound has none."""
-    if 0 <= number < len(sound):
-        return sound[number]
-    return 0
-
-
-def ramped(value, ramp, steps):
-    """The value by a rise or fall that has gone on by so many steps."""
+def ramped(row, ramp, steps):
+    """The row by a rise, or from its end on by a fall, that has gone on by so many steps where the row begins."""
     done, whole = ramp
-    if whole == 0:
-        return value
-    return value * min(whole, done + steps) // whole
+    along = done + steps
+    rising = [value * (along + at) // whole for at, value in enumerate(row[:max(whole - along, 0)])]
+    return rising + row[len(rising):]
 
 
 def split(clip, many):

@@ -30,17 +30,21 @@ def value_at(curve, tick):
     """The value of the curve at the tick."""
     check_curve(curve)
     check_number(tick, 0, 10000)
-    return value_along(curve, tick)
+    return values_along(curve, tick, tick + 1)[0]
 
 
-def value_along(points, tick):
-    """The value at the tick of a curve, or of some points of one."""
-    if tick <= points[0][0]:
-        return points[0][1]
-    for (start, one), (end, other) in zip(points, points[1:]):
-        if tick < end:
-            return one + (other - one) * (tick - start) // (end - start)
-    return points[-1][1]
+def values_along(points, first, last):
+    """The values at the ticks from first up to, and without, last of a curve, or of some points of one."""
+    ahead = len([1 for point in points if point[0] <= first])
+    within = len([1 for point in points if point[0] < last])
+    near = points[max(ahead - 1, 0):within + 1]
+    values = [near[0][1]] * (min(last, near[0][0]) - first)
+    for (start, one), (end, other) in zip(near, near[1:]):
+        values.extend([
+            one + (other - one) * (tick - start) // (end - start)
+            for tick in range(max(first, start), min(last, end))
+        ])
+    return values + [near[-1][1]] * (last - first - len(values))
 
 
 def bent(curve, tick, value):
@@ -76,6 +80,6 @@ def is_spare(near, point):
     others = [other for other in near if other != point]
     if not others:
         return False
-    low = near[0][0]
-    high = near[-1][0]
-    return all([value_along(near, tick) == value_along(others, tick) for tick in range(low, high + 1)])
+    first = near[0][0]
+    last = near[-1][0] + 1
+    return values_along(near, first, last) == values_along(others, first, last)

@@ -4,7 +4,7 @@ from trackloom.barring import Metre, are_bars
 from trackloom.checking import is_integer, is_name, is_row
 from trackloom.clips import MOST_SOUNDS, is_clip, is_sound, merged, slid, split
 from trackloom.curves import bent
-from trackloom.errors import InvalidDeed, InvalidNumber, Undefined
+from trackloom.errors import InvalidDeed, InvalidNumber, Round, Undefined
 from trackloom.pacing import Tempo, are_paces
 from trackloom.parts import MOST_NOTES, is_note, moved, raised
 from trackloom.projects import (
@@ -16,7 +16,6 @@ from trackloom.projects import (
     assembled,
     is_input,
     is_node,
-    ringed,
 )
 
 # What stands behind the word of each deed.
@@ -96,7 +95,7 @@ def outcome(project, deed):
     """What done tells of what is known to be a deed, None if it cannot be done."""
     try:
         return project_by(project, deed)
-    except (InvalidNumber, Undefined):
+    except (InvalidNumber, Round, Undefined):
         return None
 
 
@@ -120,8 +119,8 @@ def with_pool(project, pool):
 
 
 def with_nodes(project, nodes):
-    """The project with these nodes, if they are nodes together."""
-    if not nodes or not are_whole(nodes) or ringed(nodes):
+    """The project with these nodes, if they are nodes together and in no ring."""
+    if not nodes or not are_whole(nodes):
         raise Undefined("void")
     return assembled(project.tempo, project.metre, project.pool, nodes)
 

@@ -20,6 +20,13 @@ def held(number):
     return max(-BOUND, min(BOUND, number))
 
 
+def all_held(row):
+    """The row, which is not (), with each number held."""
+    if max(row) > BOUND or min(row) < -BOUND:
+        return [BOUND if number > BOUND else -BOUND if number < -BOUND else number for number in row]
+    return row
+
+
 def is_effect(value):
     """Whether any value is an effect."""
     if not is_row(value, 2, 3) or not isinstance(value[0], str):
@@ -54,6 +61,11 @@ def heard(effect, samples):
 def delay_of(effect):
     """How many samples the effect hears ahead."""
     check_effect(effect)
+    return delay_in(effect)
+
+
+def delay_in(effect):
+    """What delay_of tells, of what is known to be an effect."""
     return effect[2] if effect[0] == "limit" else 0
 
 
@@ -93,13 +105,11 @@ def gone_on(effect, state, samples):
     A state holds the last samples that the effect remembers: of what it
     made, if it goes on from that, otherwise of what it heard.
     """
-    many = len(state)
     before = list(state) + list(samples)
     behind = list(state)
-    for at in range(many, len(before)):
-        behind.append(made(effect, before, behind, at))
+    lengthen(effect, before, behind)
     kept = behind if goes_on_from_itself(effect) else before
-    return tuple(kept[len(samples):]), tuple(behind[many:])
+    return tuple(kept[len(samples):]), tuple(behind[len(state):])
 
 
 def goes_on_from_itself(effect):
@@ -110,25 +120,128 @@ def goes_on_from_itself(effect):
 def span_of(effect):
     """How far back the first and the last sample lie that a sample hangs on."""
     check_effect(effect)
+    return span_in(effect)
+
+
+def span_in(effect):
+    """What span_of tells, of what is known to be an effect."""
     if goes_on_from_itself(effect):
         return 0, None
     many = memory_of(effect)
     return many if effect[0] == "wait" else 0, many
 
 
-def made(effect, before, behind, at):
-    """The sample numbered at that the effect makes.
+def lengthen(effect, before, behind):
+    """Makes the row behind the effect, a list, as long as the one before it.
 
-    It is made of the row before it, known up to at, and of the row behind
-    it, known up to just ahead of at; ahead of both rows there is only 0.
+    Both begin with at least as many samples as the effect remembers, 0 where
+    they are ahead of all samples.
+    """
+    if len(behind) < len(before):
+        lengthen_by = LENGTHENS[effect[0]]
+        lengthen_by(effect, before, behind)
+
+
+def lengthen_by_gain(effect, before, behind):
+    """What lengthen does by "gain"."""
+    gain = effect[1]
+    behind.extend(all_held([sample * gain // 256 for sample in before[len(behind):]]))
+
+
+def lengthen_by_wait(effect, before, behind):
+    """What lengthen does by "wait"."""
+    behind.extend(before[len(behind) - effect[1]:len(before) - effect[1]])
+
+
+def lengthen_by_echo(effect, before, behind):
+    """What lengthen does by "echo"."""
+    _, back, gain = effect
+    for at in range(len(behind), len(before)):
+        value = before[at] + behind[at - back] * gain // 256
+        behind.append(value if -BOUND <= value <= BOUND else held(value))
+
+
+def lengthen_by_smooth(effect, before, behind):
+    """What lengthen does by "smooth".
+
+    Each sample lies between what is heard and the last one, so none has to
+    be held.
+    """
+    gain = effect[1]
+    last = behind[-1]
+    for sample in before[len(behind):]:
+        last = last + (sample - last) * gain // 256
+        behind.append(last)
+
+
+def lengthen_by_mix(effect, before, behind):
+    """What lengthen does by "mix"."""
+    taps = effect[1]
+    at = len(behind)
+    first = taps[0]
+    sums = [sample * first for sample in before[at:]]
+    for back in range(1, len(taps)):
+        tap = taps[back]
+        sums = [total + sample * tap for total, sample in zip(sums, before[at - back:])]
+    behind.extend(all_held([total // 256 for total in sums]))
+
+
+def lengthen_by_crush(effect, before, behind):
+    """What lengthen does by "crush"."""
+    bits = effect[1]
+    behind.extend(all_held([sample >> bits << bits for sample in before[len(behind):]]))
+
+
+def lengthen_by_limit(effect, before, behind):
+    """What lengthen does by "limit".
+
+    The greater a sample beyond the top is, the less is the gain that it asks
+    for, so the greatest one near by tells the gain.
+    """
+    _, top, ahead = effect
+    near = before[len(behind) - ahead:]
+    if max(near) <= top and min(near) >= -top:
+        behind.extend(near[:len(near) - ahead])
+    else:
+        peaks = greatest([abs(sample) for sample in near], ahead + 1)
+        behind.extend([
+            sample if peak <= top else sample * (top * 256 // peak) // 256
+            for sample, peak in zip(near, peaks)
+        ])
+
+
+def greatest(row, many):
+    """The greatest one of each so many neighbours in the row.
+
+    That of twice as many is the greater one of two, so few rounds will do.
+    """
+    reach = 1
+    while reach < many:
+        step = min(reach, many - reach)
+        row = [one if one > other else other for one, other in zip(row, row[step:])]
+        reach = reach + step
+    return row
+
+
+LENGTHENS = {
+    "gain": lengthen_by_gain,
+    "wait": lengthen_by_wait,
+    "echo": lengthen_by_echo,
+    "smooth": lengthen_by_smooth,
+    "mix": lengthen_by_mix,
+    "crush": lengthen_by_crush,
+    "limit": lengthen_by_limit,
+}
+
+
+def made(effect, before, behind, at):
+    """The sample numbered at of the row behind the effect, known up to there, by the one before it.
+
+    It is what lengthen makes, told faster where only one sample is known.
     """
     make = MAKES[effect[0]]
-    return held(make(effect, before, behind, at))
-
-
-def past(row, number):
-    """The sample with this number, 0 ahead of the row."""
-    return row[number] if number >= 0 else 0
+    value = make(effect, before, behind, at)
+    return value if -BOUND <= value <= BOUND else held(value)
 
 
 def made_by_gain(effect, before, behind, at):
@@ -138,17 +251,17 @@ def made_by_gain(effect, before, behind, at):
 
 def made_by_wait(effect, before, behind, at):
     """What "wait" makes."""
-    return past(before, at - effect[1])
+    return before[at - effect[1]]
 
 
 def made_by_echo(effect, before, behind, at):
     """What "echo" makes, not yet held."""
-    return before[at] + past(behind, at - effect[1]) * effect[2] // 256
+    return before[at] + behind[at - effect[1]] * effect[2] // 256
 
 
 def made_by_smooth(effect, before, behind, at):
-    """What "smooth" makes, not yet held."""
-    last = past(behind, at - 1)
+    """What "smooth" makes."""
+    last = behind[at - 1]
     return last + (before[at] - last) * effect[1] // 256
 
 
@@ -156,7 +269,7 @@ def made_by_mix(effect, before, behind, at):
     """What "mix" makes, not yet held."""
     total = 0
     for back, tap in enumerate(effect[1]):
-        total = total + tap * past(before, at - back)
+        total = total + tap * before[at - back]
     return total // 256
 
 
@@ -166,16 +279,11 @@ def made_by_crush(effect, before, behind, at):
 
 
 def made_by_limit(effect, before, behind, at):
-    """What "limit" makes.
-
-    The greater a sample beyond the top is, the less is the gain that it
-    asks for, so the greatest one near by tells the gain.
-    """
+    """What "limit" makes."""
     _, top, ahead = effect
-    near = before[max(at - ahead, 0):at + 1]
+    near = before[at - ahead:at + 1]
     peak = max(max(near), -min(near))
-    gain = top * 256 // peak if peak > top else 256
-    return past(before, at - ahead) * gain // 256
+    return near[0] if peak <= top else near[0] * (top * 256 // peak) // 256
 
 
 MAKES = {

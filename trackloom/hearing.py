@@ -2,7 +2,7 @@
 
 from trackloom.checking import check_number
 from trackloom.playing import played_out, played_rows
-from trackloom.projects import names_of, node_of, order_of
+from trackloom.projects import names_of, node_of
 
 
 def sample_at(project, name, number):
@@ -22,7 +22,7 @@ def rendered(project, name, first, last):
 
 def beginning_of(project, name, many):
     """The first samples, so many, of the node of this name."""
-    return played_out(project, order_of(project.nodes), {}, name, many)
+    return played_out(project, project.order, {}, name, many)
 
 
 def values_at(project, pairs):
@@ -30,5 +30,5 @@ def values_at(project, pairs):
     names = names_of(project.nodes)
     heard = [pair for pair in pairs if pair[0] in names]
     many = max([0] + [number + 1 for _, number in heard])
-    rows = played_rows(project, order_of(project.nodes), {}, [name for name, _ in heard], many)
+    rows = played_rows(project, project.order, {}, [name for name, _ in heard], many)
     return tuple([(name, number, rows[name][number] if name in names else None) for name, number in pairs])

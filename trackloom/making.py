@@ -2,10 +2,11 @@
 
 from trackloom.checking import check_number, is_ascending, is_row
 from trackloom.clips import is_clip
-from trackloom.effects import span_of
+from trackloom.effects import span_in
 from trackloom.errors import InvalidValue
 from trackloom.parts import is_note
-from trackloom.projects import Project, ahead_of, arrivals_of, lags_of, node_of, order_of
+from trackloom.playing import is_ring, links_of
+from trackloom.projects import Project, ahead_of, lags_of, node_of, rings_of
 from trackloom.tones import spans_of
 
 
@@ -57,66 +58,77 @@ def source_without(node, some):
 def makers(project, name, number):
     """The things that are makers of the sample with this number of the node of this name.
 
-    A sample hangs on none with a greater number, and not at once on one of a
-    node behind its own in an order; so, from the last number down and from
-    the last node to the first, each is looked at when all that hang on it are
-    known.
+    When a node is looked at, all that hang on it are known: it stands ahead
+    of them. In a ring they are known up to one sample, from the last one
+    down, as no sample hangs on one with a greater number.
     """
     node_of(project, name)
     check_number(number, 0, 599)
-    arrivals = arrivals_of(project)
-    trails = {node[0]: Trail(project, node, arrivals, number + 1) for node in project.nodes}
-    trails[name].wanted[number] = True
-    upward = order_of(project.nodes)[::-1]
-    found = {}
-    for at in range(number, -1, -1):
-        for one in upward:
-            trail = trails[one]
-            trail.spread(at)
-            for thing in trail.things_at(at):
-                found[thing] = True
-            heard = trail.heard_at(at)
-            for other, back in heard:
-                trails[other].wanted[back] = True
+    links = links_of(project, {})
+    trails = {node[0]: Trail(project, node) for node in project.nodes}
+    asked = trails[name]
+    asked.wanted = 1 << number
+    for names in rings_of(project.order, links)[::-1]:
+        upward = [trails[one] for one in names[::-1]]
+        if is_ring(names, links):
+            for at in range(number, -1, -1):
+                spread_all(trails, upward, 1 << at)
+        else:
+            spread_all(trails, upward, (1 << number + 1) - 1)
+    found = [thing for trail in trails.values() for thing in trail.things_up_to(number)]
     return tuple(sorted(found))
 
 
+def spread_all(trails, upward, mask):
+    """Marks what those samples hang on that are in the mask and wanted of some trails, each ahead of what it hears."""
+    for trail in upward:
+        trail.inner = trail.inner | trail.spread(trail.wanted & mask)
+        inner = trail.inner & mask
+        for name, lag in trail.lags:
+            other = trails[name]
+            other.wanted = other.wanted | inner >> lag
+
+
 class Trail:
-    """Which samples of one node are hung on.
+    """Which samples of one node are hung on, as bits of a number: bit 0 for the sample numbered 0, and so on.
 
     Of those that come of the node wanted tells, of those that go into its
     effects inner.
     """
 
-    def __init__(self, project, node, arrivals, many):
-        self.wanted = [False] * many
-        self.inner = [False] * many
+    def __init__(self, project, node):
+        self.wanted = 0
+        self.inner = 0
         self.silent = node[5]
         self.span = span_of_all(node[2])
-        self.ahead = ahead_of(node, arrivals)
-        self.lags = [(name, lag) for name, gain, lag in lags_of(node, arrivals) if gain != 0]
+        self.ahead = ahead_of(node, project.arrivals)
+        self.lags = [(name, lag) for name, gain, lag in lags_of(node, project.arrivals) if gain != 0]
         self.stretches = stretches_of(project, node)
 
-    def spread(self, at):
-        """Marks what goes into the effects wherever the sample numbered at, if it is hung on, hangs on it."""
-        if self.wanted[at] and not self.silent:
-            first, last = self.span
-            low = 0 if last is None else max(at - last, 0)
-            for number in range(low, at - first + 1):
-                self.inner[number] = True
+    def spread(self, wanted):
+        """What goes into the effects, where wanted hangs on it."""
+        if self.silent:
+            return 0
+        first, last = self.span
+        inner = wanted >> first
+        if last is None:
+            return (1 << inner.bit_length()) - 1
+        reach = 1
+        while reach < last - first + 1:
+            step = min(reach, last - first + 1 - reach)
+            inner = inner | inner >> step
+            reach = reach + step
+        return inner
 
-    def things_at(self, at):
-        """The things that are hung on at the sample numbered at of what goes into the effects."""
-        sample = at - self.ahead
-        if not self.inner[at] or sample < 0:
-            return []
-        return [thing for thing, first, last in self.stretches if first <= sample < last]
-
-    def heard_at(self, at):
-        """The pairs (name, number) of the samples that the sample numbered at, if it is hung on, has of others."""
-        if not self.inner[at]:
-            return []
-        return [(name, at - lag) for name, lag in self.lags if at >= lag]
+    def things_up_to(self, number):
+        """The things that are hung on at some sample up to this number of what goes into the effects."""
+        found = []
+        for thing, first, last in self.stretches:
+            low = first + self.ahead
+            many = min(last + self.ahead, number + 1) - low
+            if many > 0 and self.inner >> low & (1 << many) - 1:
+                found.append(thing)
+        return found
 
 
 def span_of_all(effects):
@@ -124,7 +136,7 @@ def span_of_all(effects):
     first = 0
     last = 0
     for effect in effects:
-        one, other = span_of(effect)
+        one, other = span_in(effect)
         first = first + one
         last = None if last is None or other is None else last + other
     return first, last

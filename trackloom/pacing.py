@@ -61,9 +61,13 @@ def pace_between(one, other, tick):
 def pace_at(tempo, tick):
     """How many samples the tick lasts."""
     check_number(tick, 0, 10000)
-    for one, other in zip(tempo.paces, tempo.paces[1:]):
-        if tick < other[0]:
-            return pace_between(one, other, tick)
+    return pace_in(tempo, tick)
+
+
+def pace_in(tempo, tick):
+    """What pace_at tells, of any tick."""
+    if tick < len(tempo.starts) - 1:
+        return tempo.starts[tick + 1] - tempo.starts[tick]
     return last_pace(tempo)
 
 
@@ -75,6 +79,11 @@ def last_pace(tempo):
 def sample_of(tempo, tick):
     """How many samples all ticks ahead of this one last."""
     check_number(tick, 0, 10000)
+    return start_of(tempo, tick)
+
+
+def start_of(tempo, tick):
+    """What sample_of tells, of what is known to be a tick."""
     last = len(tempo.starts) - 1
     if tick <= last:
         return tempo.starts[tick]
@@ -103,3 +112,14 @@ def last_begun(starts, sample):
         else:
             high = middle - 1
     return low
+
+
+def ticks_between(tempo, first, last):
+    """The ticks of the samples from first up to, and without, last."""
+    tick, ahead = tick_of(tempo, first)
+    ticks = []
+    while len(ticks) < last - first:
+        ticks.extend([tick] * (pace_in(tempo, tick) - ahead))
+        tick = tick + 1
+        ahead = 0
+    return ticks[:last - first]

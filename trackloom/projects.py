@@ -4,7 +4,7 @@ from trackloom.barring import Metre
 from trackloom.checking import is_ascending, is_integer, is_name, is_row
 from trackloom.clips import is_clip, is_pool
 from trackloom.curves import is_curve
-from trackloom.effects import delay_of, is_effect
+from trackloom.effects import delay_in, is_effect
 from trackloom.errors import InvalidName, InvalidNodes, InvalidPool, Round
 from trackloom.pacing import Tempo
 from trackloom.parts import is_part
@@ -100,7 +100,11 @@ def heard_now(node):
 
 
 class Project:
-    """All that is heard, and when; equal to others that have the same four parts."""
+    """All that is heard, and when; equal to others that have the same four parts.
+
+    The attribute order tells the names of the nodes, each behind all that its
+    node hears now; arrivals tells by the names how late the nodes are heard.
+    """
 
     def __init__(self, paces, bars, pool, nodes):
         self.tempo = Tempo(paces)
@@ -109,9 +113,9 @@ class Project:
             raise InvalidPool(pool)
         if not are_nodes(nodes):
             raise InvalidNodes(nodes)
-        names = ringed(nodes)
-        if names:
-            raise Round(names)
+        order, arrivals = laid_out(nodes)
+        self.order = order
+        self.arrivals = arrivals
         self.paces = paces
         self.bars = bars
         self.pool = pool
@@ -128,12 +132,15 @@ class Project:
 
 
 def assembled(tempo, metre, pool, nodes):
-    """The project of these parts, all known to be right together.
+    """The project of these parts, all known to be right but for rings of nodes, which are refused.
 
     None of them is checked, and no time reckoned, anew, as it would be if a
     Project were made of all of them.
     """
+    order, arrivals = laid_out(nodes)
     made = Project(PACES, BARS, (), NODES)
+    made.order = order
+    made.arrivals = arrivals
     made.tempo = tempo
     made.metre = metre
     made.paces = tempo.paces
@@ -141,6 +148,38 @@ def assembled(tempo, metre, pool, nodes):
     made.pool = pool
     made.nodes = nodes
     return made
+
+
+def laid_out(nodes):
+    """The order and the arrivals of the nodes; raises Round if they hear one another now in a ring."""
+    order = order_of(nodes)
+    if len(order) < len(nodes):
+        raise Round(ringed(nodes))
+    named = {node[0]: node for node in nodes}
+    arrivals = {}
+    for name in order:
+        delays = [delay_in(effect) for effect in named[name][2]]
+        arrivals[name] = ahead_of(named[name], arrivals) + sum(delays)
+    return order, arrivals
+
+
+def order_of(nodes):
+    """The names of the nodes, each behind all that its node hears now; without those that rings keep back."""
+    waits = {node[0]: len(heard_now(node)) for node in nodes}
+    hearers = {node[0]: [] for node in nodes}
+    for node in nodes:
+        for name in heard_now(node):
+            hearers[name].append(node[0])
+    order = []
+    free = [node[0] for node in nodes if waits[node[0]] == 0]
+    while free:
+        name = free.pop()
+        order.append(name)
+        for hearer in hearers[name]:
+            waits[hearer] = waits[hearer] - 1
+            if waits[hearer] == 0:
+                free.append(hearer)
+    return tuple(order)
 
 
 def ringed(nodes):
@@ -161,14 +200,34 @@ def followed(links, names):
     return found
 
 
-def order_of(nodes):
-    """The names of the nodes, each behind all that its node hears now."""
-    order = []
-    while len(order) < len(nodes):
-        for node in nodes:
-            if node[0] not in order and all([name in order for name in heard_now(node)]):
-                order.append(node[0])
-    return tuple(order)
+def rings_of(order, links):
+    """The names of the order in rows, each behind all to which links, a dict of names and lists of names, lead from it.
+
+    In one row stand those that lead to one another, so that from all of them
+    just the same is reached, they themselves with it. A row that leads to
+    another one reaches all that this does, and more, so its mask is greater.
+    """
+    places = {name: place for place, name in enumerate(order)}
+    if all([places[other] < places[name] for name in order for other in links[name]]):
+        return [[name] for name in order]
+    rings = {}
+    for name, mask in zip(order, masks_of(order, places, links)):
+        rings.setdefault(mask, []).append(name)
+    return [rings[mask] for mask in sorted(rings)]
+
+
+def masks_of(order, places, links):
+    """For each name of the order a number with a bit for each place that links lead to from it, and for its own."""
+    masks = []
+    for place, name in enumerate(order):
+        mask = 1 << place
+        for other in links[name]:
+            mask = mask | 1 << places[other]
+        masks.append(mask)
+    for place in range(len(order)):
+        through = masks[place]
+        masks = [mask | through if mask >> place & 1 else mask for mask in masks]
+    return masks
 
 
 def node_of(project, name):
@@ -182,16 +241,7 @@ def node_of(project, name):
 def arrival(project, name):
     """How many samples late the node of this name is heard."""
     node_of(project, name)
-    return arrivals_of(project)[name]
-
-
-def arrivals_of(project):
-    """The arrivals of all nodes, by their names."""
-    arrivals = {}
-    for name in order_of(project.nodes):
-        node = node_of(project, name)
-        arrivals[name] = ahead_of(node, arrivals) + sum([delay_of(effect) for effect in node[2]])
-    return arrivals
+    return project.arrivals[name]
 
 
 def ahead_of(node, arrivals):

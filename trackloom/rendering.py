@@ -4,7 +4,7 @@ from trackloom.checking import are_integers, check_number, is_ascending, is_inte
 from trackloom.effects import BOUND
 from trackloom.errors import InvalidBlocks, InvalidKept, InvalidMark, InvalidOrder
 from trackloom.playing import Player, played_out
-from trackloom.projects import heard_now, names_of, node_of, order_of
+from trackloom.projects import heard_now, names_of, node_of
 
 
 def is_order(project, value):
@@ -24,7 +24,7 @@ def is_order(project, value):
 
 def some_order(project):
     """Some order of the project."""
-    return order_of(project.nodes)
+    return project.order
 
 
 def are_blocks(value):
@@ -54,8 +54,8 @@ def is_kept(names, value, many):
 def rendered_by(project, order, blocks, kept, name):
     """The first samples of the node of this name, as many as blocks are together, with these rows kept.
 
-    All nodes go on sample by sample, so no late input has to wait for the
-    end of a block, and blocks matter by their sum alone.
+    Blocks and order change nothing of the samples, so blocks matter by their
+    sum alone.
     """
     if not is_order(project, order):
         raise InvalidOrder(order)
@@ -79,14 +79,15 @@ class Renderer:
         self.project = project
         self.at = 0
         self._marks = ()
-        self._player = Player(project, order_of(project.nodes), {})
+        self._player = Player(project, project.order, {})
 
     def next(self, many):
         """The pairs (name, samples) of all nodes, the next so many samples."""
         check_number(many, 1, min(600, 1000 - self.at))
         first = self.at
         last = first + many
-        self._player.play(last)
+        # To go on twice as far as is known makes many short calls take little more time than a long one.
+        self._player.play(max(last, min(2 * self._player.at, 1000)))
         self.at = last
         return tuple([(name, tuple(self._player.outs[name][first:last])) for name in names_of(self.project.nodes)])
 

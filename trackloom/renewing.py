@@ -3,7 +3,7 @@
 from trackloom.checking import check_number, is_ascending, is_row
 from trackloom.errors import InvalidKept, InvalidName
 from trackloom.playing import Player
-from trackloom.projects import followed, heard_by, names_of, order_of
+from trackloom.projects import followed, heard_by, names_of
 from trackloom.rendering import are_kept
 
 
@@ -60,6 +60,6 @@ def renewed(before, after, kept, many):
         raise InvalidKept(kept)
     names = reached(after, changed(before, after))
     rows = {name: samples for name, samples in kept if name not in names}
-    player = Player(after, order_of(after.nodes), rows)
+    player = Player(after, after.order, rows)
     player.play(many)
     return tuple([(name, tuple(player.outs[name])) for name in names_of(after.nodes)]), names

@@ -10,14 +10,14 @@ from trackloom.logs import log_of, record_of, recovered
 class Seat:
     """What one person of a studio has: a copy, its log, the samples that are watched, and what was told of them.
 
-    Of watched and told the keys are pairs (name, number); told has the value
+    Of watches and told the keys are pairs (name, number); told has the value
     that news told last, and none of a sample that was watched since.
     """
 
     def __init__(self, copy):
         self.copy = copy
         self.log = ()
-        self.watched = {}
+        self.watches = {}
         self.told = {}
 
 
@@ -99,13 +99,13 @@ class Studio:
         if not is_name(name):
             raise InvalidName(name)
         check_number(number, 0, 599)
-        seat.watched[(name, number)] = True
+        seat.watches[(name, number)] = True
         seat.told.pop((name, number), None)
 
     def watched(self, person):
         """The triples (name, number, value) of all that the person watches."""
         seat = self._seat(person)
-        return values_at(seat.copy.project, sorted(seat.watched))
+        return values_at(seat.copy.project, sorted(seat.watches))
 
     def news(self, person):
         """Those of the watched triples that the person was not yet told so."""

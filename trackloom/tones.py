@@ -2,7 +2,7 @@
 
 from trackloom.checking import are_integers, check_number, is_ascending, is_integer, is_row
 from trackloom.errors import InvalidTone, InvalidTuning
-from trackloom.pacing import sample_of
+from trackloom.pacing import start_of
 from trackloom.parts import check_part
 
 TURN = 65536
@@ -43,33 +43,32 @@ def is_wave(value):
     return value[0] == "noise" and is_integer(value[1], 0, 65535)
 
 
-def height_at(wave, step, age):
-    """The height of the wave at an age, the phase going on by step with each sample."""
+def heights_between(wave, step, first, last):
+    """The heights of the wave from the age first up to, and without, last, its phase going on by step with each."""
     if wave[0] == "noise":
-        return noise_at(wave[1], age)
-    phase = step * age % TURN
+        return noise_between(wave[1], first, last)
+    phases = [step * age % TURN for age in range(first, last)]
     if wave[0] == "saw":
-        return phase - HALF
+        return [phase - HALF for phase in phases]
     if wave[0] == "square":
-        return 32767 if phase < HALF else -32767
+        return [32767 if phase < HALF else -32767 for phase in phases]
     if wave[0] == "peak":
-        return 2 * phase - HALF if phase < HALF else 98303 - 2 * phase
-    return table_at(wave[1], phase)
+        return [2 * phase - HALF if phase < HALF else 98303 - 2 * phase for phase in phases]
+    return table_along(wave[1], phases)
 
 
-def noise_at(seed, age):
-    """The height of noise at an age."""
-    mixture = seed * 40503 + age * 30011
-    return mixture * mixture // 256 % TURN - HALF
+def noise_between(seed, first, last):
+    """The heights of noise from the age first up to, and without, last."""
+    mixtures = [seed * 40503 + age * 30011 for age in range(first, last)]
+    return [mixture * mixture // 256 % TURN - HALF for mixture in mixtures]
 
 
-def table_at(values, phase):
-    """The height at the phase of a wave that goes through the values in one turn."""
-    along = phase * len(values)
-    at = along // TURN
-    one = values[at]
-    other = values[(at + 1) % len(values)]
-    return one + (other - one) * (along % TURN) // TURN
+def table_along(values, phases):
+    """The heights at the phases of a wave that goes through the values in one turn."""
+    many = len(values)
+    ways = [other - one for one, other in zip(values, values[1:] + values[:1])]
+    places = [phase * many for phase in phases]
+    return [values[place // TURN] + ways[place // TURN] * (place % TURN) // TURN for place in places]
 
 
 def is_shape(value):
@@ -77,24 +76,33 @@ def is_shape(value):
     return are_integers(value, 4, 4, 0, 2000) and value[2] <= 256
 
 
-def gain_at(shape, held, age):
-    """The gain of the shape at an age, of a note that is held so long."""
-    if age < held:
-        return gain_on(shape, age)
+def gains_between(shape, held, first, last):
+    """The gains of the shape from the age first up to, and without, last, of a note that is held so long."""
+    if last <= held:
+        return gains_on(shape, first, last)
+    gains = gains_on(shape, first, held) if first < held else []
     fade = shape[3]
-    if age < held + fade:
-        return gain_on(shape, held) * (held + fade - age) // fade
-    return 0
+    if first < held + fade:
+        top = gains_on(shape, held, held + 1)[0]
+        gains.extend([
+            top * (held + fade - age) // fade
+            for age in range(max(first, held), min(last, held + fade))
+        ])
+    return gains + [0] * (last - first - len(gains))
 
 
-def gain_on(shape, age):
-    """The gain of the shape at an age, as long as the note is held."""
+def gains_on(shape, first, last):
+    """The gains of the shape between these ages, as long as the note is held."""
     rise, fall, level, _ = shape
-    if age < rise:
-        return age * 256 // rise
-    if age < rise + fall:
-        return 256 - (256 - level) * (age - rise) // fall
-    return level
+    gains = []
+    if first < rise:
+        gains = [age * 256 // rise for age in range(first, min(last, rise))]
+    if first < rise + fall and last > rise:
+        gains.extend([
+            256 - (256 - level) * (age - rise) // fall
+            for age in range(max(first, rise), min(last, rise + fall))
+        ])
+    return gains + [level] * (last - first - len(gains))
 
 
 def is_tone(value):
@@ -121,20 +129,22 @@ def tone_at(tone, pitch, force, held, age):
     check_number(force, 1, 127)
     check_number(held, 0, 1000000)
     check_number(age, 0, 1000000)
-    return sample_in(tone, pitch, force, held, age)
+    return samples_between(tone, (0, 1, pitch, force), held, age, age + 1)[0]
 
 
-def sample_in(tone, pitch, force, held, age):
-    """What tone_at tells, of what is known to be right."""
+def samples_between(tone, note, held, first, last):
+    """The samples of the tone from the age first up to, and without, last, of a note that is held so long."""
     wave, tuning, shape, _ = tone
-    height = height_at(wave, step_in(tuning, pitch), age)
-    return height * gain_at(shape, held, age) // 256 * force // 128
+    _, _, pitch, force = note
+    heights = heights_between(wave, step_in(tuning, pitch), first, last)
+    gains = gains_between(shape, held, first, last)
+    return [height * gain // 256 * force // 128 for height, gain in zip(heights, gains)]
 
 
 def played(tone, part, tempo, sample):
     """The sum of what all notes of the part that sound make at the sample."""
     check_played(tone, part, sample)
-    return sum_at(tone, spans_of(part, tempo), sample)
+    return sums_between(tone, spans_of(part, tempo), sample, sample + 1)[0]
 
 
 def voiced(tone, part, tempo, sample):
@@ -154,17 +164,36 @@ def spans_of(part, tempo):
     """The triples (note, begin, held) of all notes of the part: where each begins, and how long it is held."""
     spans = []
     for note in part:
-        begin = sample_of(tempo, note[0])
-        spans.append((note, begin, sample_of(tempo, note[0] + note[1]) - begin))
+        begin = start_of(tempo, note[0])
+        spans.append((note, begin, start_of(tempo, note[0] + note[1]) - begin))
     return spans
 
 
-def sum_at(tone, spans, sample):
-    """What played tells, of the spans of the part."""
-    total = 0
-    for note, held, age in voices_at(tone, spans, sample):
-        total = total + sample_in(tone, note[2], note[3], held, age)
-    return total
+def sums_between(tone, spans, first, last):
+    """What played tells from the sample first up to, and without, last, of the spans of the part.
+
+    Wherever no note begins or ends the same ones sound on, so their samples
+    are made in whole rows.
+    """
+    marks = marks_between(tone, spans, first, last)
+    sums = []
+    for one, other in zip(marks, marks[1:]):
+        row = [0] * (other - one)
+        for note, held, age in voices_at(tone, spans, one):
+            more = samples_between(tone, note, held, age, age + other - one)
+            row = [total + sample for total, sample in zip(row, more)]
+        sums.extend(row)
+    return sums
+
+
+def marks_between(tone, spans, first, last):
+    """The samples first and last, and those between them at which notes begin or are no longer alive."""
+    if last - first < 2:
+        return [first, last]
+    fade = tone[2][3]
+    begins = [begin for _, begin, _ in spans if first < begin < last]
+    ends = [begin + held + fade for _, begin, held in spans if first < begin + held + fade < last]
+    return sorted(set([first, last] + begins + ends))
 
 
 def voices_at(tone, spans, sample):

@@ -59,7 +59,7 @@ def value_in(text, at, depth):
         return tuple_in(text, at + 1, depth)
     if sign == '"':
         return string_in(text, at + 1)
-    if sign == "n" and text[at:at + 4] == "none":
+    if text[at:at + 4] == "none":
         return None, at + 4
     return integer_in(text, at)
 
@@ -70,15 +70,14 @@ def tuple_in(text, at, depth):
         raise InvalidText(text)
     if text[at:at + 1] == ")":
         return (), at + 1
-    members = []
-    while True:
-        member, at = value_in(text, at, depth + 1)
+    member, at = value_in(text, at, depth + 1)
+    members = [member]
+    while text[at:at + 2] == ", ":
+        member, at = value_in(text, at + 2, depth + 1)
         members.append(member)
-        if text[at:at + 1] == ")":
-            return tuple(members), at + 1
-        if text[at:at + 2] != ", ":
-            raise InvalidText(text)
-        at = at + 2
+    if text[at:at + 1] != ")":
+        raise InvalidText(text)
+    return tuple(members), at + 1
 
 
 def string_in(text, at):
@@ -91,20 +90,18 @@ def string_in(text, at):
 
 
 def integer_in(text, at):
-    """What value_in tells of an integer."""
-    first = at + 1 if text[at:at + 1] == "-" else at
-    end = first
-    while "0" <= text[end:end + 1] <= "9":
-        end = end + 1
-    if not are_figures(text[first:end]) or text[at:end] == "-0":
+    """What value_in tells of an integer, which goes on to the next comma or bracket."""
+    word = text[at:at + FIGURES + 2].partition(",")[0].partition(")")[0]
+    if not are_figures(word.removeprefix("-")) or word == "-0":
         raise InvalidText(text)
-    return int(text[at:end]), end
+    return int(word), at + len(word)
 
 
 def are_figures(text):
     """Whether the string is a number of at most 12 figures, as it is written."""
     return (
         1 <= len(text) <= FIGURES
-        and all(["0" <= sign <= "9" for sign in text])
+        and text.isascii()
+        and text.isdigit()
         and (text[0] != "0" or len(text) == 1)
     )
